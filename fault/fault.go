@@ -1,0 +1,23 @@
+// Package fault: the errors that the program's parts hand up to its calls.
+package fault
+
+import (
+	"errors"
+	"strconv"
+)
+
+var (
+	Long  = errors.New("the text is too long")
+	JSON  = errors.New("no JSON text")
+	Large = errors.New("a number that is too great, or too fine")
+)
+
+// At is a fault together with the place in the text where it was met.
+type At struct {
+	Place int
+	Cause error
+}
+
+func (a At) Error() string { return a.Cause.Error() + ", at " + strconv.Itoa(a.Place) }
+
+func (a At) Unwrap() error { return a.Cause }

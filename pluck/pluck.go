@@ -1,0 +1,49 @@
+// Package pluck: questions about JSON texts: see DOC.md.
+package pluck
+
+import (
+	"errors"
+
+	"pluck/api"
+	"pluck/fault"
+	"pluck/reader"
+	"pluck/value"
+)
+
+// Compact writes a JSON text in one way (P3).
+func Compact(json string) (string, int, api.Errno) {
+	v, err := reader.Text(json)
+	if err != nil {
+		return "", place(err), errno(err)
+	}
+	return value.Text(v), 0, api.OK
+}
+
+// Show tells how an expression is understood (P4).
+func Show(expr string) (string, int, api.Errno) { return "", 0, api.OK }
+
+// Eval answers an expression (P5 to P8).
+func Eval(expr, json string) (string, api.Errno) { return "", api.OK }
+
+// Run is the command (P9).
+func Run(args []string, input string) (string, int) { return "", 0 }
+
+func place(err error) int {
+	var at fault.At
+	if errors.As(err, &at) {
+		return at.Place
+	}
+	return 0
+}
+
+func errno(err error) api.Errno {
+	switch {
+	case errors.Is(err, fault.Long):
+		return api.ErrLong
+	case errors.Is(err, fault.JSON):
+		return api.ErrJSON
+	case errors.Is(err, fault.Large):
+		return api.ErrLarge
+	}
+	return api.OK
+}
