@@ -7,9 +7,12 @@ import (
 )
 
 var (
-	Long  = errors.New("the text is too long")
-	JSON  = errors.New("no JSON text")
-	Large = errors.New("a number that is too great, or too fine")
+	Long   = errors.New("the text is too long")
+	Syntax = errors.New("no expression")
+	Name   = errors.New("no such function")
+	Arity  = errors.New("not the args that the function takes")
+	JSON   = errors.New("no JSON text")
+	Large  = errors.New("a number that is too great, or too fine")
 )
 
 // At is a fault together with the place in the text where it was met.

@@ -7,8 +7,13 @@ import (
 
 func TestAtWrapsItsCause(t *testing.T) {
 	var err error = At{Place: 3, Cause: JSON}
-	if !errors.Is(err, JSON) || errors.Is(err, Large) || errors.Is(err, Long) {
-		t.Errorf("a fault at a place is its cause, and no other")
+	if !errors.Is(err, JSON) {
+		t.Errorf("a fault at a place is its cause")
+	}
+	for _, other := range []error{Long, Syntax, Name, Arity, Large} {
+		if errors.Is(err, other) {
+			t.Errorf("a fault at a place is its cause, not %v", other)
+		}
 	}
 	var at At
 	if !errors.As(err, &at) || at.Place != 3 {

@@ -1,6 +1,7 @@
 package pluck_test
 
 import (
+	"strconv"
 	"strings"
 	"sync"
 	"testing"
@@ -19,11 +20,17 @@ func TestP1FirstErrorIsTold(t *testing.T) {
 	wantWrong(t, "[1e-7", 5)
 	wantWrong(t, "1e10 1", 5)
 	wantError(t, "[1e10,1e-7]", api.ErrLarge)
+	// Too long, no expression, with a literal's number that is none, wrong calls.
+	wantFault(t, "f(`1e10`).type() #"+strings.Repeat(" ", 120), 0, api.ErrLong)
+	wantFault(t, "f(`1e10`).type() #", 17, api.ErrSyntax)
+	wantFault(t, "f(`1e10`).type()", 0, api.ErrLarge)
+	wantFault(t, " f(`1`).type()", 1, api.ErrName)
+	wantFault(t, " type(f(), a)", 1, api.ErrArity)
 }
 
 func TestP1EveryCallEnds(t *testing.T) {
 	for _, s := range []string{
-		"", "\x00", "\xff\xfe", "\"\\u", strings.Repeat("[", 1000), strings.Repeat("{\"\":", 250), strings.Repeat("\xf0", 1000), "1e" + strings.Repeat("9", 998), "0." + strings.Repeat("0", 998),
+		"", "\x00", "\xff\xfe", "\"\\u", "'", "'\\", "`", "-", "a[", "a.", "[*", "a[*", "[::", "{a:", "type(", "map(&", strings.Repeat("!", 120), strings.Repeat("a|", 60), strings.Repeat("[", 120), strings.Repeat("a(", 60), strings.Repeat("{a:", 40), strings.Repeat("-", 120), strings.Repeat("'", 119), strings.Repeat("[", 1000), strings.Repeat("{\"\":", 250), strings.Repeat("\xf0", 1000), "1e" + strings.Repeat("9", 998), "0." + strings.Repeat("0", 998),
 		strings.Repeat("[", 9000000), strings.Repeat("9", 9000000), "\"" + strings.Repeat("\\", 9000000),
 	} {
 		pluck.Compact(s)
@@ -38,59 +45,77 @@ func TestP1EveryCallEnds(t *testing.T) {
 	pluck.Run(make([]string, 100000), "")
 }
 
-// samples are of all the sorts of answers that Compact has.
-func samples() []string {
-	return []string{
-		"", "null", "1e10", "[1,]", `"a\u00e9b"`, `"plain"`, `{"a":1,"b":[true,"x"],"a":{"c":"y"}}`, "[[[[[[[[[[[[[", strings.Repeat(" ", 1001), "1000000000", `{"a":1e-7,"a":1}`,
-	}
-}
-
 type answer struct {
 	text  string
 	place int
 	errno api.Errno
 }
 
-func ask(json string) answer {
-	text, place, errno := pluck.Compact(json)
+// A question is a call, and an argument for it.
+type question struct {
+	call     func(string) (string, int, api.Errno)
+	name     string
+	argument string
+}
+
+func (q question) String() string { return q.name + " of " + strconv.Quote(q.argument) }
+
+func (q question) ask(argument string) answer {
+	text, place, errno := q.call(argument)
 	return answer{text, place, errno}
+}
+
+// questions are of all the sorts of answers that the calls have.
+func questions() []question {
+	var all []question
+	for _, json := range []string{
+		"", "null", "1e10", "[1,]", `"a\u00e9b"`, `"plain"`, `{"a":1,"b":[true,"x"],"a":{"c":"y"}}`, "[[[[[[[[[[[[[", strings.Repeat(" ", 1001), "1000000000", `{"a":1e-7,"a":1}`,
+	} {
+		all = append(all, question{pluck.Compact, "Compact", json})
+	}
+	for _, expr := range []string{
+		"", "a", `"a"`, "'a'", "`1e10`", "`{\"a\":\"b\"}`", "a.b[1:2:3] | {c: 'd', \"e\": `\"f\"`}", "map(&a, b)", "f()", "a.type()", "a..b", "!!!!!!!!!!!!!", strings.Repeat("a", 121),
+	} {
+		all = append(all, question{pluck.Show, "Show", expr})
+	}
+	return all
 }
 
 // The string lies on bytes that can be looked at, and changed, afterwards.
 func TestP2NothingIsWrittenIntoOrKept(t *testing.T) {
-	for _, json := range samples() {
-		room := []byte(json + "spare")
+	for _, q := range questions() {
+		room := []byte(q.argument + "spare")
 		before := string(room)
-		got := ask(unsafe.String(unsafe.SliceData(room), len(json)))
+		got := q.ask(unsafe.String(unsafe.SliceData(room), len(q.argument)))
 		if string(room) != before {
-			t.Errorf("Compact(%q) wrote into its argument, or behind it", json)
+			t.Errorf("%v wrote into its argument, or behind it", q)
 		}
 		text := strings.Clone(got.text)
 		for i := range room {
 			room[i] = '#'
 		}
 		if got.text != text {
-			t.Errorf("Compact(%q) answers with the memory of its argument", json)
+			t.Errorf("%v answers with the memory of its argument", q)
 		}
-		if again := ask(json); again.text != text || again.place != got.place || again.errno != got.errno {
-			t.Errorf("Compact(%q) answers %v, and then %v", json, got, again)
+		if again := q.ask(q.argument); again.text != text || again.place != got.place || again.errno != got.errno {
+			t.Errorf("%v answers %v, and then %v", q, got, again)
 		}
 	}
 }
 
 func TestP2AnswersHangOnTheArgumentAlone(t *testing.T) {
-	all := samples()
+	all := questions()
 	want := make([]answer, len(all))
-	for i, json := range all {
-		want[i] = ask(json)
+	for i, q := range all {
+		want[i] = q.ask(q.argument)
 	}
 	var workers sync.WaitGroup
 	for shift := range all {
 		workers.Go(func() {
 			for i := range all {
 				k := (i*7 + shift) % len(all)
-				if got := ask(all[k]); got != want[k] {
-					t.Errorf("Compact(%q) = %v, and %v at another time", all[k], want[k], got)
+				if got := all[k].ask(all[k].argument); got != want[k] {
+					t.Errorf("%v answers %v, and %v at another time", all[k], want[k], got)
 				}
 			}
 		})

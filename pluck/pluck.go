@@ -6,7 +6,9 @@ import (
 
 	"pluck/api"
 	"pluck/fault"
+	"pluck/parser"
 	"pluck/reader"
+	"pluck/tree"
 	"pluck/value"
 )
 
@@ -20,7 +22,13 @@ func Compact(json string) (string, int, api.Errno) {
 }
 
 // Show tells how an expression is understood (P4).
-func Show(expr string) (string, int, api.Errno) { return "", 0, api.OK }
+func Show(expr string) (string, int, api.Errno) {
+	n, err := parser.Text(expr)
+	if err != nil {
+		return "", place(err), errno(err)
+	}
+	return tree.Text(n), 0, api.OK
+}
 
 // Eval answers an expression (P5 to P8).
 func Eval(expr, json string) (string, api.Errno) { return "", api.OK }
@@ -40,6 +48,12 @@ func errno(err error) api.Errno {
 	switch {
 	case errors.Is(err, fault.Long):
 		return api.ErrLong
+	case errors.Is(err, fault.Syntax):
+		return api.ErrSyntax
+	case errors.Is(err, fault.Name):
+		return api.ErrName
+	case errors.Is(err, fault.Arity):
+		return api.ErrArity
 	case errors.Is(err, fault.JSON):
 		return api.ErrJSON
 	case errors.Is(err, fault.Large):

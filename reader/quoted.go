@@ -10,6 +10,20 @@ const (
 	escaped = "\"\\/\b\f\n\r\t"
 )
 
+// Quoted is what the JSON string at the beginning of the text says, and how
+// many bytes it has there.
+func Quoted(text string) (string, int, error) {
+	r := reader{text: text}
+	if r.peek() != '"' {
+		return "", 0, r.wrong()
+	}
+	s, err := r.quoted()
+	if err != nil {
+		return "", 0, err
+	}
+	return s, r.at, nil
+}
+
 func (r *reader) quoted() (string, error) {
 	r.at++
 	var out []byte

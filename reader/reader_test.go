@@ -48,3 +48,21 @@ func TestTextFaults(t *testing.T) {
 		t.Errorf("of 1001 bytes: %v", err)
 	}
 }
+
+func TestQuoted(t *testing.T) {
+	for text, want := range map[string]struct {
+		said string
+		size int
+	}{
+		`""`: {"", 2}, `"a" "b"`: {"a", 3}, `"\u0061\"]" x`: {`a"]`, 11}, `"é"""`: {"é", 4},
+	} {
+		if s, size, err := Quoted(text); s != want.said || size != want.size || err != nil {
+			t.Errorf("Quoted(%q) = %q, %d, %v, want %q, %d", text, s, size, err, want.said, want.size)
+		}
+	}
+	for _, text := range []string{"", "a", ` "a"`, `"a`, `"\x"`, "\"\xff\"", `"\ud800"`} {
+		if s, size, err := Quoted(text); s != "" || size != 0 || !errors.Is(err, fault.JSON) {
+			t.Errorf("Quoted(%q) = %q, %d, %v", text, s, size, err)
+		}
+	}
+}
