@@ -12,7 +12,8 @@ var (
 	Name   = errors.New("no such function")
 	Arity  = errors.New("not the args that the function takes")
 	JSON   = errors.New("no JSON text")
-	Large  = errors.New("a number that is too great, or too fine")
+	Large  = errors.New("a number that is too great, or too fine, or a value that is too heavy")
+	Type   = errors.New("a function of what it does not take")
 )
 
 // At is a fault together with the place in the text where it was met.

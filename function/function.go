@@ -1,50 +1,36 @@
 // Package function: the functions that an expression may call.
 package function
 
-import "strings"
+import (
+	"pluck/fault"
+	"pluck/value"
+)
 
-// The args that a call has, or a function takes, are told by a byte for each.
+// Whether an arg is a value or an expression is told by a byte for each.
 const (
 	Value      = 'v'
 	Expression = '&'
 )
 
-type Function struct {
-	word string
-	args string
-	more bool // of the last arg there may be more
+// A Closure is what an expression has become: called with the current value, it
+// answers with what the expression gives.
+type Closure func(current value.Value) (value.Value, error)
+
+// An Arg is a value, or an expression that the function calls as it likes.
+type Arg struct {
+	Value value.Value
+	By    Closure
 }
 
-func table() []Function {
-	return []Function{
-		{word: "abs", args: "v"},
-		{word: "avg", args: "v"},
-		{word: "ceil", args: "v"},
-		{word: "contains", args: "vv"},
-		{word: "ends_with", args: "vv"},
-		{word: "floor", args: "v"},
-		{word: "join", args: "vv"},
-		{word: "keys", args: "v"},
-		{word: "length", args: "v"},
-		{word: "map", args: "&v"},
-		{word: "max", args: "v"},
-		{word: "max_by", args: "v&"},
-		{word: "merge", args: "v", more: true},
-		{word: "min", args: "v"},
-		{word: "min_by", args: "v&"},
-		{word: "not_null", args: "v", more: true},
-		{word: "reverse", args: "v"},
-		{word: "sort", args: "v"},
-		{word: "sort_by", args: "v&"},
-		{word: "starts_with", args: "vv"},
-		{word: "sum", args: "v"},
-		{word: "to_array", args: "v"},
-		{word: "to_number", args: "v"},
-		{word: "to_string", args: "v"},
-		{word: "type", args: "v"},
-		{word: "values", args: "v"},
-	}
+type Function struct {
+	word string
+	args []kind
+	more bool // of the last arg there may be more
+	do   body
 }
+
+// A body is only called with what the function takes.
+type body func(args []Arg) (value.Value, error)
 
 // Find is the function of this name, if there is one.
 func Find(word string) (Function, bool) {
@@ -56,11 +42,28 @@ func Find(word string) (Function, bool) {
 	return Function{}, false
 }
 
-// Takes tells whether these are args as the function takes them.
+// Takes tells whether these are as many args as the function takes, with
+// expressions just where it takes them.
 func (f Function) Takes(args string) bool {
-	rest, ok := strings.CutPrefix(args, f.args)
-	if !ok || !f.more {
-		return ok && rest == ""
+	if len(args) < len(f.args) || len(args) > len(f.args) && !f.more {
+		return false
 	}
-	return strings.Trim(rest, f.args[len(f.args)-1:]) == ""
+	for i := range len(args) {
+		if (args[i] == Expression) != (f.kind(i) == nil) {
+			return false
+		}
+	}
+	return true
 }
+
+// Call is what the function gives of args that Takes allows.
+func (f Function) Call(args []Arg) (value.Value, error) {
+	for i, arg := range args {
+		if kind := f.kind(i); kind != nil && !kind(arg.Value) {
+			return nil, fault.Type
+		}
+	}
+	return f.do(args)
+}
+
+func (f Function) kind(arg int) kind { return f.args[min(arg, len(f.args)-1)] }

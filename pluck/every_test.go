@@ -26,6 +26,12 @@ func TestP1FirstErrorIsTold(t *testing.T) {
 	wantFault(t, "f(`1e10`).type()", 0, api.ErrLarge)
 	wantFault(t, " f(`1`).type()", 1, api.ErrName)
 	wantFault(t, " type(f(), a)", 1, api.ErrArity)
+	// The expression's, the text's, then those of the reckoning.
+	wantFailed(t, "[1e10,x", api.ErrLarge, "f(`1e10`)")
+	wantFailed(t, "[1e10,x", api.ErrName, "f(abs('x'))")
+	wantFailed(t, "[1e10,x", api.ErrJSON, "abs('x')")
+	wantFailed(t, "[1e10]", api.ErrLarge, "abs('x')")
+	wantFailed(t, "[1e9]", api.ErrType, "abs('x')")
 }
 
 func TestP1EveryCallEnds(t *testing.T) {
@@ -37,6 +43,7 @@ func TestP1EveryCallEnds(t *testing.T) {
 		pluck.Show(s)
 		pluck.Eval(s, s)
 		pluck.Eval("@", s)
+		pluck.Eval(s, "[1]")
 		pluck.Run([]string{s}, s)
 		pluck.Run([]string{s, s, s}, s)
 		pluck.Run([]string{"@"}, s)
@@ -78,7 +85,21 @@ func questions() []question {
 	} {
 		all = append(all, question{pluck.Show, "Show", expr})
 	}
+	for _, expr := range []string{
+		"", "@", "a", "'a'", "`{\"a\":\"b\"}`", "b[*].c", "{c: a, d: 'e'}", "sort(b)", "sort_by(b, &@)", "reverse(b)", "merge(@, {a: b})", "to_string(@)", "join('-', keys(@))", "abs(a)", "sum(`[1e9,1]`)", "f()", "[b, b][] | [::-1]", "a..b", strings.Repeat("a", 121),
+	} {
+		for _, json := range []string{"", "null", `{"a":"plain","b":["z","x","y"]}`, `{"a":1,"b":[3,1,2,1]}`, "[1,]", "1e10", strings.Repeat(" ", 1001)} {
+			all = append(all,
+				question{func(expr string) (string, int, api.Errno) { return evaluated(expr, json) }, "Eval with " + json, expr},
+				question{func(json string) (string, int, api.Errno) { return evaluated(expr, json) }, "Eval with " + expr, json})
+		}
+	}
 	return all
+}
+
+func evaluated(expr, json string) (string, int, api.Errno) {
+	text, errno := pluck.Eval(expr, json)
+	return text, 0, errno
 }
 
 // The string lies on bytes that can be looked at, and changed, afterwards.
@@ -110,7 +131,7 @@ func TestP2AnswersHangOnTheArgumentAlone(t *testing.T) {
 		want[i] = q.ask(q.argument)
 	}
 	var workers sync.WaitGroup
-	for shift := range all {
+	for shift := range 16 {
 		workers.Go(func() {
 			for i := range all {
 				k := (i*7 + shift) % len(all)

@@ -5,6 +5,7 @@ import (
 	"errors"
 
 	"pluck/api"
+	"pluck/eval"
 	"pluck/fault"
 	"pluck/parser"
 	"pluck/reader"
@@ -31,7 +32,26 @@ func Show(expr string) (string, int, api.Errno) {
 }
 
 // Eval answers an expression (P5 to P8).
-func Eval(expr, json string) (string, api.Errno) { return "", api.OK }
+func Eval(expr, json string) (string, api.Errno) {
+	v, err := given(expr, json)
+	if err != nil {
+		return "", errno(err)
+	}
+	return value.Text(v), api.OK
+}
+
+// given is what an expression gives of the value of a JSON text.
+func given(expr, json string) (value.Value, error) {
+	n, err := parser.Text(expr)
+	if err != nil {
+		return nil, err
+	}
+	v, err := reader.Text(json)
+	if err != nil {
+		return nil, err
+	}
+	return eval.Closure(n)(v)
+}
 
 // Run is the command (P9).
 func Run(args []string, input string) (string, int) { return "", 0 }
@@ -58,6 +78,8 @@ func errno(err error) api.Errno {
 		return api.ErrJSON
 	case errors.Is(err, fault.Large):
 		return api.ErrLarge
+	case errors.Is(err, fault.Type):
+		return api.ErrType
 	}
 	return api.OK
 }

@@ -15,32 +15,48 @@ const (
 	mostNoughts = 15
 )
 
+// Number is what a text says that is a JSON number and nothing else, and
+// whether it is that, and there is such a Number.
+func Number(text string) (value.Number, bool) {
+	r := reader{text: text}
+	if err := r.numeral(); err != nil || r.at < len(text) {
+		return 0, false
+	}
+	return exact(text)
+}
+
 func (r *reader) number() (value.Value, error) {
 	from := r.at
-	r.take('-')
-	if !r.take('0') {
-		if err := r.digits(); err != nil {
-			return nil, err
-		}
-	}
-	if r.take('.') {
-		if err := r.digits(); err != nil {
-			return nil, err
-		}
-	}
-	if r.take('e') || r.take('E') {
-		if !r.take('+') {
-			r.take('-')
-		}
-		if err := r.digits(); err != nil {
-			return nil, err
-		}
+	if err := r.numeral(); err != nil {
+		return nil, err
 	}
 	n, ok := exact(r.text[from:r.at])
 	if !ok {
 		r.large = true
 	}
 	return n, nil
+}
+
+// numeral passes the text of a number.
+func (r *reader) numeral() error {
+	r.take('-')
+	if !r.take('0') {
+		if err := r.digits(); err != nil {
+			return err
+		}
+	}
+	if r.take('.') {
+		if err := r.digits(); err != nil {
+			return err
+		}
+	}
+	if r.take('e') || r.take('E') {
+		if !r.take('+') {
+			r.take('-')
+		}
+		return r.digits()
+	}
+	return nil
 }
 
 func (r *reader) digits() error {

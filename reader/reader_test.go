@@ -35,6 +35,23 @@ func TestExact(t *testing.T) {
 	}
 }
 
+func TestNumber(t *testing.T) {
+	for text, want := range map[string]value.Number{
+		"0": 0, "-0": 0, "1.50": 1500000, "-2e1": -20000000, "1E+0": value.Unit, "1000000000": value.Limit, "0.0000010": 1,
+	} {
+		if n, ok := Number(text); n != want || !ok {
+			t.Errorf("Number(%q) = %d, %t, want %d", text, n, ok, want)
+		}
+	}
+	for _, text := range []string{
+		"", "-", "+1", "01", "1.", ".5", "1e", "1e+", "--1", " 1", "1 ", "1\x00", "1,", "0x1", "1_0", "1e1.5", "Infinity", "NaN", "null", "\"1\"", "[1]", "١", "1e10", "1e-7", "1000000000.000001",
+	} {
+		if n, ok := Number(text); n != 0 || ok {
+			t.Errorf("Number(%q) = %d, %t, want none", text, n, ok)
+		}
+	}
+}
+
 func TestTextFaults(t *testing.T) {
 	_, err := Text("[1,]")
 	var at fault.At

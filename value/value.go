@@ -39,6 +39,25 @@ func (String) isValue() {}
 func (List) isValue()   {}
 func (Object) isValue() {}
 
+// Get is the value of a key, if the object has it.
+func (o Object) Get(key string) (Value, bool) {
+	for i := range o {
+		if o[i].Key == key {
+			return o[i].Value, true
+		}
+	}
+	return nil, false
+}
+
+// Values are what the keys have, in order.
+func (o Object) Values() List {
+	out := make(List, len(o))
+	for i := range o {
+		out[i] = o[i].Value
+	}
+	return out
+}
+
 // Put gives the key this value, at the place that the key already has, or else
 // at the end. It may write into o, which has to be the caller's own.
 func (o Object) Put(key string, v Value) Object {

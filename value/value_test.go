@@ -28,3 +28,62 @@ func TestPutKeepsTheFirstPlace(t *testing.T) {
 		t.Errorf("an object comes to %s, want %s", got, want)
 	}
 }
+
+func TestGetAndValues(t *testing.T) {
+	o := Object{{"a", Number(1)}, {"", Null{}}, {"b", List{}}}
+	if v, ok := o.Get("a"); v != Number(1) || !ok {
+		t.Errorf("a has %v, %t", v, ok)
+	}
+	if v, ok := o.Get(""); v != (Null{}) || !ok {
+		t.Errorf("the empty key has %v, %t", v, ok)
+	}
+	if v, ok := o.Get("c"); v != nil || ok {
+		t.Errorf("c has %v, %t", v, ok)
+	}
+	if got := Text(o.Values()); got != "[0.000001,null,[]]" {
+		t.Errorf("the values are %s", got)
+	}
+	if got := Object(nil).Values(); len(got) != 0 {
+		t.Errorf("the values of none are %v", got)
+	}
+}
+
+// ofAllKinds has no two values that are the same.
+func ofAllKinds() []Value {
+	return []Value{
+		Null{}, Bool(false), Bool(true), Number(0), Number(1), String(""), String("a"), String("null"), List{}, List{Null{}}, List{Number(0)}, List{Number(0), Number(1)}, List{Number(1), Number(0)}, List{List{}},
+		Object{}, Object{{"a", Null{}}}, Object{{"b", Null{}}}, Object{{"a", Number(0)}}, Object{{"a", Number(0)}, {"b", Number(1)}}, Object{{"a", Number(1)}, {"b", Number(0)}}, Object{{"a", Number(0)}, {"c", Number(1)}}, Object{{"a", List{Object{}}}},
+	}
+}
+
+func TestSame(t *testing.T) {
+	all, others := ofAllKinds(), ofAllKinds()
+	for i, a := range all {
+		for k, b := range others {
+			if got := Same(a, b); got != (i == k) {
+				t.Errorf("Same(%s, %s) = %t", Text(a), Text(b), got)
+			}
+		}
+	}
+	if !Same(List(nil), List{}) || !Same(Object(nil), Object{}) {
+		t.Errorf("two that are empty are not the same")
+	}
+	a := List{Object{{"a", Number(1)}, {"b", Object{{"c", Null{}}, {"d", Bool(true)}}}}}
+	b := List{Object{{"b", Object{{"d", Bool(true)}, {"c", Null{}}}}, {"a", Number(1)}}}
+	if !Same(a, b) || !Same(b, a) {
+		t.Errorf("the order of keys counts")
+	}
+}
+
+func TestFalseLike(t *testing.T) {
+	for _, v := range []Value{Null{}, Bool(false), String(""), List(nil), List{}, Object(nil), Object{}} {
+		if !FalseLike(v) {
+			t.Errorf("%s is true like", Text(v))
+		}
+	}
+	for _, v := range []Value{Bool(true), Number(0), Number(-1), String("0"), String("\x00"), List{Null{}}, Object{{"", Null{}}}} {
+		if FalseLike(v) {
+			t.Errorf("%s is false like", Text(v))
+		}
+	}
+}
