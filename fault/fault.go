@@ -14,6 +14,7 @@ var (
 	JSON   = errors.New("no JSON text")
 	Large  = errors.New("a number that is too great, or too fine, or a value that is too heavy")
 	Type   = errors.New("a function of what it does not take")
+	Args   = errors.New("not options and one expression")
 )
 
 // At is a fault together with the place in the text where it was met.

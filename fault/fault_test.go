@@ -10,7 +10,7 @@ func TestAtWrapsItsCause(t *testing.T) {
 	if !errors.Is(err, JSON) {
 		t.Errorf("a fault at a place is its cause")
 	}
-	for _, other := range []error{Long, Syntax, Name, Arity, Large, Type} {
+	for _, other := range []error{Long, Syntax, Name, Arity, Large, Type, Args} {
 		if errors.Is(err, other) {
 			t.Errorf("a fault at a place is its cause, not %v", other)
 		}

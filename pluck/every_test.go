@@ -1,6 +1,7 @@
 package pluck_test
 
 import (
+	"slices"
 	"strconv"
 	"strings"
 	"sync"
@@ -32,6 +33,13 @@ func TestP1FirstErrorIsTold(t *testing.T) {
 	wantFailed(t, "[1e10,x", api.ErrJSON, "abs('x')")
 	wantFailed(t, "[1e10]", api.ErrLarge, "abs('x')")
 	wantFailed(t, "[1e9]", api.ErrType, "abs('x')")
+	// The command's: of the args and the input, the expression's, then each text's.
+	wantRun(t, "-x a..b", "x", "", 2)
+	wantRun(t, "a..b", "x"+strings.Repeat(" ", 4000), "", 2)
+	wantRun(t, "f(`1e10`)", "x", "", 1)
+	wantRun(t, "abs('x')", "x", "", 3)
+	wantRun(t, "abs('x')", "[1e10", "", 3)
+	wantRun(t, "abs('x')", "1 x", "", 4)
 }
 
 func TestP1EveryCallEnds(t *testing.T) {
@@ -47,9 +55,15 @@ func TestP1EveryCallEnds(t *testing.T) {
 		pluck.Run([]string{s}, s)
 		pluck.Run([]string{s, s, s}, s)
 		pluck.Run([]string{"@"}, s)
+		pluck.Run([]string{"-u", "-n", "--", s}, s)
+		pluck.Run([]string{"-" + s, s}, s)
+		if len(s) <= 1000 {
+			pluck.Run([]string{"@"}, "1 "+s+s+" 2 "+s)
+		}
 	}
 	pluck.Run(nil, "")
 	pluck.Run(make([]string, 100000), "")
+	pluck.Run(slices.Repeat([]string{"-u"}, 100000), "")
 }
 
 type answer struct {
@@ -94,7 +108,50 @@ func questions() []question {
 				question{func(json string) (string, int, api.Errno) { return evaluated(expr, json) }, "Eval with " + expr, json})
 		}
 	}
+	return append(all, runQuestions()...)
+}
+
+// runQuestions have the expression, or the input, as what is asked.
+func runQuestions() []question {
+	var all []question
+	for _, option := range []string{"-u", "-n", "--", "-x"} {
+		for _, expr := range []string{"@", "a", "keys(@)[0]", "'plain'", "`\"plain\"`", "merge(`{\"a\":1}`, @)", "a..b"} {
+			for _, input := range []string{"", `"plain"`, `{"a":"plain"} {"a":null}`, `{"plain":1}{"plain":2}x`, "[1]", strings.Repeat(" ", 4001)} {
+				all = append(all,
+					question{func(expr string) (string, int, api.Errno) { return ran(option, expr, input) }, "Run with " + option + " and " + input, expr},
+					question{func(input string) (string, int, api.Errno) { return ran(option, expr, input) }, "Run with " + option + " and " + expr, input})
+			}
+		}
+	}
 	return all
+}
+
+// ran has the status where others have a place.
+func ran(option, expr, input string) (string, int, api.Errno) {
+	text, status := pluck.Run([]string{option, expr}, input)
+	return text, status, api.OK
+}
+
+func TestP2ArgsAreNotWrittenInto(t *testing.T) {
+	for _, words := range []string{"@", "-u @", "-u -n -- @", "-x @", "@ @", "-u", "--", "a..b", "-- -u", "@ -u", "-n -n -n -u a b"} {
+		for _, input := range []string{"", `"x"[]null`, "1 x", strings.Repeat(" ", 4001)} {
+			given := args(words)
+			room := append(slices.Clone(given), "-u", "--", "spare", "")
+			before := slices.Clone(room)
+			pluck.Run(room[:len(given)], input)
+			if !slices.Equal(room, before) {
+				t.Errorf("Run(%q) made its args %q, with their spare room", words, room)
+			}
+		}
+	}
+	// They are not kept, though the same list has other words the next time.
+	list := []string{"-u", "@"}
+	for _, c := range []struct{ first, second, want string }{{"-u", "@", "x\n"}, {"-n", "@", "\"x\"\n"}, {"--", "type(@)", "\"string\"\n"}, {"-u", "@", "x\n"}} {
+		list[0], list[1] = c.first, c.second
+		if out, status := pluck.Run(list, `"x"`); out != c.want || status != 0 {
+			t.Errorf("Run(%q) = %q, %d, want %q", list, out, status, c.want)
+		}
+	}
 }
 
 func evaluated(expr, json string) (string, int, api.Errno) {

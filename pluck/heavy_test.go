@@ -112,7 +112,13 @@ func TestP1HeavyQuestionsEnd(t *testing.T) {
 			strings.Repeat("[@,@,@,@]|", 11) + "@", strings.Repeat("@.[@,@,@,@][*]|", 7) + "@", "@" + strings.Repeat(".[@,@,@,@][*]", 7) + ".a", "@" + strings.Repeat(".[@,@,@,@][*]", 6) + "[?@==@].a", "@" + strings.Repeat(".[@,@,@]", 12), "@" + strings.Repeat(".{a:@,b:@,c:@}.*", 6), strings.Repeat("[@,@,@][]|", 11) + "@", strings.Repeat("join(@,[@,@])|", 8) + "@", strings.Repeat("to_string([@,@])|", 6) + "@", strings.Repeat("map(&", 11) + "@" + strings.Repeat(",[@,@])", 7), "to_string(@)" + strings.Repeat("|to_string([@])", 7), "[@,@,@,@,@,@][]|[@,@,@,@,@][]|[*].[@,@,@,@].[@,@,@,@].[@,@,@,@].[@,@,@,@].a",
 		} {
 			pluck.Eval(expr, json)
+			pluck.Run([]string{expr}, strings.Repeat(json+" ", 4000/(len(json)+1)))
 		}
+	}
+	// Far more is told than is read.
+	out, status := pluck.Run([]string{"-u", "@&&join('',[@,@,@,@,@,@,@,@,@])|join('',[@,@,@,@,@,@,@,@])|join('',[@,@,@,@,@,@])"}, strings.Repeat(`"1234567"`, 400))
+	if want := strings.Repeat(strings.Repeat("1234567", 432)+"\n", 400); out != want || status != 0 {
+		t.Errorf("%d bytes, %d, want %d bytes", len(out), status, len(want))
 	}
 }
 

@@ -5,6 +5,7 @@ import (
 	"errors"
 
 	"pluck/api"
+	"pluck/command"
 	"pluck/eval"
 	"pluck/fault"
 	"pluck/parser"
@@ -54,7 +55,18 @@ func given(expr, json string) (value.Value, error) {
 }
 
 // Run is the command (P9).
-func Run(args []string, input string) (string, int) { return "", 0 }
+func Run(args []string, input string) (string, int) {
+	out, err := command.Run(args, input)
+	return out, status(err)
+}
+
+func status(err error) int {
+	var failure command.Failure
+	if errors.As(err, &failure) {
+		return failure.Status
+	}
+	return 0
+}
 
 func place(err error) int {
 	var at fault.At

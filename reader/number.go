@@ -13,6 +13,8 @@ const (
 	farthest = 1 << 40
 	// mostNoughts is how many value.Limit has: with more, any digit is beyond it.
 	mostNoughts = 15
+	// numeric are the bytes that numbers are made of.
+	numeric = "0123456789+-.eE"
 )
 
 // Number is what a text says that is a JSON number and nothing else, and
@@ -29,6 +31,10 @@ func (r *reader) number() (value.Value, error) {
 	from := r.at
 	if err := r.numeral(); err != nil {
 		return nil, err
+	}
+	// Where texts may touch, `1-2` would else be two of them.
+	if strings.IndexByte(numeric, r.peek()) >= 0 {
+		return nil, r.wrong()
 	}
 	n, ok := exact(r.text[from:r.at])
 	if !ok {
